@@ -95,8 +95,17 @@ func (p parts) takesNone(t *testing.T, k int, want api.Errno) {
 	}
 }
 
-// holds looks at all that lists tell: those of these classes have these slots, the first one first, the others none.
+// holds looks at all that lists tell, and at their links: those of these classes have these slots, the first one first, the others none.
 func (p parts) holds(t *testing.T, want map[int][]int) {
+	t.Helper()
+	p.tells(t, want)
+	for _, l := range want {
+		p.threaded(t, l)
+	}
+}
+
+// tells looks at all that lists tell, whatever the links are.
+func (p parts) tells(t *testing.T, want map[int][]int) {
 	t.Helper()
 	for _, k := range append(noClasses(), 0, 1, 2, 3) {
 		l, first := want[k], 0
@@ -109,7 +118,6 @@ func (p parts) holds(t *testing.T, want map[int][]int) {
 		if got := slices.Collect(p.All(k)); !slices.Equal(got, l) {
 			t.Errorf("All(%d): %v; want %v", k, got, l)
 		}
-		p.threaded(t, l)
 	}
 	var all []int
 	for _, l := range want {
@@ -381,22 +389,79 @@ func TestAllIsLeftAnywhere(t *testing.T) {
 	p.holds(t, map[int][]int{1: l})
 }
 
-// TestAllEndsWhateverOthersLay has somebody else lay words into slots that are in their list: nothing is promised of it but an end.
-func TestAllEndsWhateverOthersLay(t *testing.T) {
-	for _, to := range []int{0, 1, 3, 5, 2, 21, 100, 101, 1 << 20} {
+// words are words that others may lay: links to slots of this list, to those of others, to what is none, and words that are no link.
+func words(t *testing.T) []uint64 {
+	t.Helper()
+	object, ok := header.Object(0, 1)
+	if !ok {
+		t.Fatal("header.Object")
+	}
+	l := []uint64{0, 1, 3, object, math.MaxUint64}
+	for _, to := range []int{0, 1, 3, 5, 2, 7, 21, 81, 100, 101, 1 << 20} {
+		w, ok := header.Link(to)
+		if !ok {
+			t.Fatal("header.Link:", to)
+		}
+		l = append(l, w)
+	}
+	return l
+}
+
+// TestWhateverOthersLay has somebody else lay a word into a slot that is in its list: the list is still the one that was put.
+func TestWhateverOthersLay(t *testing.T) {
+	for _, w := range words(t) {
 		for _, at := range []int{1, 3, 5} {
 			p := four(t)
-			p.puts(t, 1, 3, 5)
-			w, _ := header.Link(to)
+			p.puts(t, 1, 3, 5, 21)
 			p.arena.Store(at, w)
-			if l := slices.Collect(p.All(0)); len(l) > 3 {
-				t.Errorf("a link from %d to %d: %v", at, to, l)
+			p.tells(t, map[int][]int{0: {5, 3, 1}, 1: {21}})
+			for _, l := range [][]int{{5, 3, 1}, {3, 1}, {1}} {
+				p.takes(t, 0, l[0])
+				p.tells(t, map[int][]int{0: l[1:], 1: {21}})
 			}
-			for range 5 {
-				p.Take(0)
-			}
+			p.takesNone(t, 0, api.ErrNone)
+			p.puts(t, 3, 5)
+			p.holds(t, map[int][]int{0: {5, 3}, 1: {21}})
 		}
 	}
+}
+
+func TestALinkToItself(t *testing.T) {
+	p := made(t, 1, 16, 0)
+	p.puts(t, 1)
+	w, _ := header.Link(1)
+	p.arena.Store(1, w)
+	p.tells(t, map[int][]int{0: {1}})
+	p.takes(t, 0, 1)
+	p.tells(t, nil)
+	p.takesNone(t, 0, api.ErrNone)
+}
+
+func TestTwoListsOverOneArena(t *testing.T) {
+	a, b := row(t, 16), table(t, 1, 16, 0)
+	var both []parts
+	for range 2 {
+		l, e := lists.New(a, b)
+		if e != api.OK {
+			t.Fatal("New:", e)
+		}
+		both = append(both, parts{l, a, b})
+	}
+	x, y := both[0], both[1]
+	x.puts(t, 1)
+	y.puts(t, 3)
+	x.puts(t, 3)
+	y.puts(t, 1)
+	x.tells(t, map[int][]int{0: {3, 1}})
+	x.takes(t, 0, 3)
+	x.tells(t, map[int][]int{0: {1}})
+	x.takes(t, 0, 1)
+	x.tells(t, nil)
+	y.tells(t, map[int][]int{0: {1, 3}})
+	y.takes(t, 0, 1)
+	y.takes(t, 0, 3)
+	x.tells(t, nil)
+	y.tells(t, nil)
 }
 
 func TestListsShareNothing(t *testing.T) {
@@ -429,6 +494,21 @@ func TestNilLists(t *testing.T) {
 // TestAgainstRows puts and takes by a fixed rule, and holds the lists against rows of slots.
 func TestAgainstRows(t *testing.T) {
 	p := made(t, 6, 21, 0, 3, 1, 2, 0)
+	p.againstRows(t, p.holds, func(int) {})
+}
+
+// TestAgainstRowsWhateverOthersLay does so, while somebody else lays words anywhere.
+func TestAgainstRowsWhateverOthersLay(t *testing.T) {
+	p := made(t, 6, 21, 0, 3, 1, 2, 0)
+	l := words(t)
+	p.againstRows(t, p.tells, func(n int) {
+		p.arena.Store(n/7%(6*21)+1, l[n%len(l)])
+	})
+}
+
+// againstRows puts and takes by a fixed rule, while something else is done, and holds the lists against rows of slots.
+func (p parts) againstRows(t *testing.T, holds func(*testing.T, map[int][]int), meanwhile func(n int)) {
+	t.Helper()
 	want := map[int][]int{}
 	x := uint64(1)
 	for range 2000 {
@@ -439,11 +519,12 @@ func TestAgainstRows(t *testing.T) {
 		} else {
 			againstPut(t, p, want, n/3%(6*21+2))
 		}
+		meanwhile(n)
 		if n%97 == 0 {
-			p.holds(t, want)
+			holds(t, want)
 		}
 	}
-	p.holds(t, want)
+	holds(t, want)
 }
 
 // againstPut puts at an address, and into a row likewise.
