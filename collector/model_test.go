@@ -6,25 +6,14 @@ import (
 
 	"dustpan/api"
 	"dustpan/config"
+	"dustpan/guess"
 	"dustpan/mutator"
 	"dustpan/phase"
 	"dustpan/trace"
 )
 
-// rule is numbers by a fixed rule: each time one below n.
-type rule func(n int) int
-
-// ruled is the rule of a seed.
-func ruled(seed uint64) rule {
-	x := seed*2862933555777941757 + 1
-	return func(n int) int {
-		x = x*6364136223846793005 + 1442695040888963407
-		return int(x>>33) % n
-	}
-}
-
 // some is a program of n operations by a rule, most of which lay and take fields.
-func some(roll rule, c api.Config, n int) []api.Op {
+func some(roll guess.Rule, c api.Config, n int) []api.Op {
 	kinds := []int{api.Alloc, api.Load, api.Load, api.Store, api.Store, api.Store, api.Get, api.Get, api.Set, api.Drop, api.Move}
 	size := 1 + roll(4)
 	var l []api.Op
@@ -47,11 +36,6 @@ func some(roll rule, c api.Config, n int) []api.Op {
 		l = append(l, o)
 	}
 	return l
-}
-
-// somehow is a config by a rule.
-func somehow(roll rule) api.Config {
-	return api.Config{Blocks: 1 + roll(5), Words: 16 + roll(9), Muts: 1 + roll(4), Regs: 1 + roll(4), Cells: roll(4), Log: 1 + roll(3), Stack: 1 + roll(5)}
 }
 
 // roots is what cells, registers and what is held have, without 0.
@@ -138,7 +122,7 @@ type watch struct {
 }
 
 // watched is a watch of a machine, whose programs have n operations by a rule.
-func watched(t *testing.T, roll rule, c api.Config, n int) *watch {
+func watched(t *testing.T, roll guess.Rule, c api.Config, n int) *watch {
 	t.Helper()
 	w := &watch{freed: map[int]bool{}, young: map[int]bool{}, told: map[int]int{}}
 	for range c.Muts {
@@ -265,8 +249,8 @@ func (w *watch) rested(t *testing.T, n int) {
 func TestScripts(t *testing.T) {
 	told := map[int]int{}
 	for seed := range uint64(160) {
-		roll := ruled(seed)
-		w := watched(t, roll, somehow(roll), 400)
+		roll := guess.By(seed)
+		w := watched(t, roll, guess.Config(roll), 400)
 		most, mine := 1+roll(30), 1+roll(60) // in one go
 		for picks := 0; picks < 3000; {
 			who := roll(len(w.muts) + 1)
@@ -298,30 +282,17 @@ func TestScripts(t *testing.T) {
 	}
 }
 
-// row is so many picks of all from 0 on, below who, each of them once at least, mixed by a rule: rows of them are fair by twice as many, less one.
-func row(roll rule, who, picks int) []int {
-	l := make([]int, picks)
-	for i := range l {
-		if l[i] = i; i >= who {
-			l[i] = roll(who)
-		}
-		other := roll(i + 1)
-		l[i], l[other] = l[other], l[i]
-	}
-	return l
-}
-
 // With picks that are fair by K marking ends, and a cycle, within their bounds.
 func TestFair(t *testing.T) {
 	for seed := range uint64(60) {
-		roll := ruled(seed + 500)
-		c := somehow(roll)
+		roll := guess.By(seed + 500)
+		c := guess.Config(roll)
 		w := watched(t, roll, c, 300)
 		block := c.Muts + 1 + roll(20)
 		k := 2*block - 1
 		since := 0
 		goes(t, "four cycles", func() bool { return w.told[api.Rested] == 4 }, func() {
-			for _, who := range row(roll, c.Muts+1, block) {
+			for _, who := range guess.Row(roll, c.Muts+1, block) {
 				w.coll.Wish()
 				since++
 				kind := w.pick(t, who)
@@ -339,8 +310,8 @@ func TestFair(t *testing.T) {
 // Behind programs that have ended just what is reached is left.
 func TestRest(t *testing.T) {
 	for seed := range uint64(60) {
-		roll := ruled(seed + 900)
-		w := watched(t, roll, somehow(roll), 60)
+		roll := guess.By(seed + 900)
+		w := watched(t, roll, guess.Config(roll), 60)
 		done := func() bool {
 			return !slices.ContainsFunc(w.muts, func(one *mutator.Mut) bool { return !one.Done() })
 		}
@@ -359,8 +330,8 @@ func TestRest(t *testing.T) {
 // With mutators that do nothing but answer just what isn't reached is freed, whatever the rooms are.
 func TestJustGarbage(t *testing.T) {
 	for seed := range uint64(200) {
-		roll := ruled(seed + 2000)
-		c := somehow(roll)
+		roll := guess.By(seed + 2000)
+		c := guess.Config(roll)
 		c.Blocks = 2 + roll(10)
 		w := watched(t, roll, c, 30)
 		var l []int

@@ -6,6 +6,7 @@ import (
 	"testing"
 
 	"dustpan/fair"
+	"dustpan/guess"
 )
 
 // same holds what there is, one by one, against what there should be.
@@ -13,18 +14,6 @@ func same(t *testing.T, what string, got []int, want ...int) {
 	t.Helper()
 	if !slices.Equal(got, want) {
 		t.Fatalf("%s: %v; want %v", what, got, want)
-	}
-}
-
-// rule is numbers by a fixed rule: each time one below n.
-type rule func(n int) int
-
-// ruled is the rule of a seed.
-func ruled(seed uint64) rule {
-	x := seed*2862933555777941757 + 1
-	return func(n int) int {
-		x = x*6364136223846793005 + 1442695040888963407
-		return int(x>>33) % n
 	}
 }
 
@@ -141,7 +130,7 @@ func TestFewerPicks(t *testing.T) {
 func TestAgainstPlain(t *testing.T) {
 	gaps := map[int]int{}
 	for seed := range uint64(3000) {
-		roll := ruled(seed)
+		roll := guess.By(seed)
 		who := 1 + roll(5)
 		var row []int
 		for range roll(40) {

@@ -8,12 +8,13 @@ import (
 	"dustpan/api"
 	"dustpan/config"
 	"dustpan/fair"
+	"dustpan/guess"
 	"dustpan/op"
 	"dustpan/world"
 )
 
 // numbers is n numbers by a rule, below most.
-func numbers(roll rule, n, most int) []uint16 {
+func numbers(roll guess.Rule, n, most int) []uint16 {
 	l := make([]uint16, n)
 	for i := range l {
 		l[i] = uint16(roll(most))
@@ -49,7 +50,7 @@ func TestSpread(t *testing.T) {
 
 // There is none of a who not from 1 to 16, or a block below who, or above 1000.
 func TestSpreadOfNone(t *testing.T) {
-	raw := numbers(ruled(1), 3000, 1<<16)
+	raw := numbers(guess.By(1), 3000, 1<<16)
 	most := func(who, block, want int) {
 		t.Helper()
 		if n := len(fair.Spread(raw, who, block)); n != want {
@@ -90,7 +91,7 @@ func TestSpreadSharesNothing(t *testing.T) {
 // Each block begins with each of all once, as their numbers rise, and goes on by what is left of the others.
 func TestSpreadBlocks(t *testing.T) {
 	for seed := range uint64(500) {
-		roll := ruled(seed)
+		roll := guess.By(seed)
 		who := 1 + roll(16)
 		block := who + roll(40)
 		raw := numbers(roll, roll(20*block), 1+roll(1<<16))
@@ -118,7 +119,7 @@ func TestSpreadBlocks(t *testing.T) {
 func TestSpreadIsFair(t *testing.T) {
 	just := 0
 	for seed := range uint64(2000) {
-		roll := ruled(seed + 7000)
+		roll := guess.By(seed + 7000)
 		who := 1 + roll(16)
 		block := who + roll(30)*roll(2)
 		l := fair.Spread(numbers(roll, 12*block+roll(block), 1+roll(1<<16)), who, block)
@@ -145,7 +146,7 @@ func TestSpreadPicks(t *testing.T) {
 	}
 	ended := 0
 	for seed := range uint64(40) {
-		roll := ruled(seed)
+		roll := guess.By(seed)
 		c := config.Clamp(api.Config{Blocks: 1 + roll(4), Muts: 1 + roll(8), Regs: 2, Cells: 1, Log: 1 + roll(3), Stack: 1 + roll(3)})
 		who := c.Muts + 1 + roll(2) // whether wishes are among them, or not
 		block := who + roll(30)

@@ -8,28 +8,12 @@ import (
 	"dustpan/config"
 	"dustpan/fair"
 	"dustpan/ghost"
+	"dustpan/guess"
 	"dustpan/world"
 )
 
-// rule is numbers by a fixed rule: each time one below n.
-type rule func(n int) int
-
-// ruled is the rule of a seed.
-func ruled(seed uint64) rule {
-	x := seed*2862933555777941757 + 1
-	return func(n int) int {
-		x = x*6364136223846793005 + 1442695040888963407
-		return int(x>>33) % n
-	}
-}
-
-// somehow is a config by a rule.
-func somehow(roll rule) api.Config {
-	return api.Config{Blocks: 1 + roll(5), Words: 16 + roll(9), Muts: 1 + roll(4), Regs: 1 + roll(4), Cells: roll(4), Log: 1 + roll(3), Stack: 1 + roll(5)}
-}
-
 // some is as many programs as a config has mutators, each of n operations by a rule.
-func some(roll rule, c api.Config, n int) [][]api.Op {
+func some(roll guess.Rule, c api.Config, n int) [][]api.Op {
 	kinds := []int{api.Alloc, api.Load, api.Store, api.Store, api.Get, api.Set, api.Drop, api.Move}
 	size := 1 + roll(4)
 	l := make([][]api.Op, c.Muts)
@@ -51,24 +35,6 @@ func some(roll rule, c api.Config, n int) [][]api.Op {
 				o.A = roll(c.Cells + 1)
 			}
 			l[id] = append(l[id], o)
-		}
-	}
-	return l
-}
-
-// script is n picks by a rule, of each of whom some come in one go; none is fair.
-func script(roll rule, c api.Config, n int) []int {
-	most, mine := 1+roll(30), 1+roll(60)
-	var l []int
-	for len(l) < n {
-		who := roll(c.Muts + 1)
-		switch {
-		case roll(4) == 0:
-			l = append(l, c.Muts+1)
-		case who == c.Muts:
-			l = append(l, slices.Repeat([]int{who}, 1+roll(mine))...)
-		default:
-			l = append(l, slices.Repeat([]int{who}, 1+roll(most))...)
 		}
 	}
 	return l
@@ -205,10 +171,10 @@ func (w *watch) does(t *testing.T, who int) {
 func TestScripts(t *testing.T) {
 	var all watch
 	for seed := range uint64(80) {
-		roll := ruled(seed)
-		c := somehow(roll)
+		roll := guess.By(seed)
+		c := guess.Config(roll)
 		w := &watch{World: made(t, c, some(roll, c, 300)...)}
-		l := script(roll, c, 1500)
+		l := guess.Picks(roll, c, 1500)
 		if roll(3) == 0 {
 			raw := make([]uint16, len(l))
 			for i := range raw {
@@ -230,7 +196,7 @@ func TestScripts(t *testing.T) {
 }
 
 // lays lays any words into cells and fields, some of which are no objects.
-func lays(roll rule, w *world.World) {
+func lays(roll guess.Rule, w *world.World) {
 	h := w.Shared().Heap
 	anything := func() int {
 		if l := h.Objects(); len(l) > 0 && roll(6) > 0 {
@@ -252,10 +218,10 @@ func lays(roll rule, w *world.World) {
 func TestWhateverIsLaid(t *testing.T) {
 	kinds := map[int]int{}
 	for seed := range uint64(400) {
-		roll := ruled(seed + 5000)
-		c := somehow(roll)
+		roll := guess.By(seed + 5000)
+		c := guess.Config(roll)
 		w := made(t, c, some(roll, c, 100)...)
-		picks(t, w, script(roll, c, 100+roll(500))...)
+		picks(t, w, guess.Picks(roll, c, 100+roll(500))...)
 		for range 5 {
 			lays(roll, w)
 			looks(t, w)
@@ -271,10 +237,10 @@ func TestWhateverIsLaid(t *testing.T) {
 // Looking at a world changes nothing.
 func TestLooking(t *testing.T) {
 	for seed := range uint64(20) {
-		roll := ruled(seed + 900)
-		c := somehow(roll)
+		roll := guess.By(seed + 900)
+		c := guess.Config(roll)
 		programs := some(roll, c, 100)
-		l := script(roll, c, 1000)
+		l := guess.Picks(roll, c, 1000)
 		w, seen := made(t, c, programs...), made(t, c, programs...)
 		picks(t, w, l...)
 		for _, who := range l {

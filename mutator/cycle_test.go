@@ -5,6 +5,7 @@ import (
 	"testing"
 
 	"dustpan/api"
+	"dustpan/guess"
 	"dustpan/mutator"
 	"dustpan/sweep"
 	"dustpan/trace"
@@ -206,7 +207,7 @@ type tally struct {
 func TestAmongOthers(t *testing.T) {
 	sum := &tally{codes: map[api.Errno]int{}}
 	for seed := range uint64(120) {
-		among(t, ruled(seed+1000), sum)
+		among(t, guess.By(seed+1000), sum)
 		if t.Failed() {
 			t.Fatal("the seed", seed)
 		}
@@ -217,7 +218,7 @@ func TestAmongOthers(t *testing.T) {
 }
 
 // among is one run of them.
-func among(t *testing.T, roll rule, sum *tally) {
+func among(t *testing.T, roll guess.Rule, sum *tally) {
 	t.Helper()
 	c := api.Config{Blocks: 1 + roll(5), Words: 16 + roll(9), Muts: 1 + roll(4), Regs: 1 + roll(4), Cells: roll(3), Log: 1 + roll(3), Stack: 1}
 	s := share(t, c)

@@ -7,24 +7,13 @@ import (
 	"dustpan/class"
 	"dustpan/config"
 	"dustpan/graph"
+	"dustpan/guess"
 	"dustpan/mutator"
 	"dustpan/op"
 )
 
-// rule is numbers by a fixed rule: each time one below n.
-type rule func(n int) int
-
-// ruled is the rule of a seed.
-func ruled(seed uint64) rule {
-	x := seed*2862933555777941757 + 1
-	return func(n int) int {
-		x = x*6364136223846793005 + 1442695040888963407
-		return int(x>>33) % n
-	}
-}
-
 // some is a program of n operations by a rule, those that are wrong among them.
-func some(roll rule, c api.Config, n int) []api.Op {
+func some(roll guess.Rule, c api.Config, n int) []api.Op {
 	size := 1 + roll(5)
 	var l []api.Op
 	for range n {
@@ -139,7 +128,7 @@ func few(t *testing.T, c api.Config, m *mutator.Mut) {
 func TestAloneAgainstAGraph(t *testing.T) {
 	codes := map[api.Errno]int{}
 	for seed := range uint64(150) {
-		roll := ruled(seed)
+		roll := guess.By(seed)
 		c := api.Config{Blocks: 1 + roll(6), Words: 16 + roll(20), Muts: 1, Regs: 1 + roll(4), Cells: roll(3), Log: 1 + roll(4), Stack: 1}
 		s := share(t, c)
 		l := some(roll, c, 150)

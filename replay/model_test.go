@@ -6,29 +6,13 @@ import (
 	"testing"
 
 	"dustpan/api"
+	"dustpan/guess"
 	"dustpan/op"
 	"dustpan/world"
 )
 
-// rule is numbers by a fixed rule: each time one below n.
-type rule func(n int) int
-
-// ruled is the rule of a seed.
-func ruled(seed uint64) rule {
-	x := seed*2862933555777941757 + 1
-	return func(n int) int {
-		x = x*6364136223846793005 + 1442695040888963407
-		return int(x>>33) % n
-	}
-}
-
-// somehow is a config by a rule.
-func somehow(roll rule) api.Config {
-	return api.Config{Blocks: 1 + roll(5), Words: 16 + roll(9), Muts: 1 + roll(4), Regs: 1 + roll(4), Cells: roll(4), Log: 1 + roll(3), Stack: 1 + roll(5)}
-}
-
 // some is as many programs as a config has mutators, each of n operations by a rule, those that are wrong among them.
-func some(roll rule, c api.Config, n int) [][]api.Op {
+func some(roll guess.Rule, c api.Config, n int) [][]api.Op {
 	size := 1 + roll(4)
 	l := make([][]api.Op, c.Muts)
 	for m := range l {
@@ -52,24 +36,6 @@ func some(roll rule, c api.Config, n int) [][]api.Op {
 				o = api.Op{Kind: roll(11) - 1, A: roll(20) - 2, B: roll(20) - 2, C: roll(20) - 2}
 			}
 			l[m] = append(l[m], o)
-		}
-	}
-	return l
-}
-
-// script is n picks by a rule, of each of whom some come in one go; none is fair.
-func script(roll rule, c api.Config, n int) []int {
-	most, mine := 1+roll(30), 1+roll(60)
-	var l []int
-	for len(l) < n {
-		who := roll(c.Muts + 1)
-		switch {
-		case roll(4) == 0:
-			l = append(l, c.Muts+1)
-		case who == c.Muts:
-			l = append(l, slices.Repeat([]int{who}, 1+roll(mine))...)
-		default:
-			l = append(l, slices.Repeat([]int{who}, 1+roll(most))...)
 		}
 	}
 	return l
@@ -200,7 +166,7 @@ func (p *plain) numbers(l []*thing) []int {
 }
 
 // guess is an event by a rule, most of which are right, or wrong by little.
-func (p *plain) guess(roll rule) api.Event {
+func (p *plain) guess(roll guess.Rule) api.Event {
 	m := roll(p.config.Muts)
 	e := did(m, p.next[m], 0)
 	if e.Op < len(p.programs[m]) {
@@ -240,7 +206,7 @@ func (p *plain) guess(roll rule) api.Event {
 }
 
 // wild is a number of those at which something might end.
-func wild(roll rule) int {
+func wild(roll guess.Rule) int {
 	return []int{math.MinInt, math.MinInt + 1, -1 << 32, -1, 0, 1, 1 << 32, math.MaxInt - 1, math.MaxInt}[roll(9)]
 }
 
@@ -248,8 +214,8 @@ func wild(roll rule) int {
 func TestGuesses(t *testing.T) {
 	took, refused := map[api.Errno]int{}, 0
 	for seed := range uint64(300) {
-		roll := ruled(seed)
-		c := somehow(roll)
+		roll := guess.By(seed)
+		c := guess.Config(roll)
 		programs := some(roll, c, roll(60))
 		r, p := made(t, c, programs...), plainOf(c, programs)
 		for range 200 {
@@ -305,8 +271,8 @@ func TestGuesses(t *testing.T) {
 func TestWorlds(t *testing.T) {
 	told, again := map[int]int{}, 0
 	for seed := range uint64(60) {
-		roll := ruled(seed + 400)
-		c := somehow(roll)
+		roll := guess.By(seed + 400)
+		c := guess.Config(roll)
 		programs := some(roll, c, 300)
 		w, e := world.New(c, programs...)
 		if e != api.OK {
@@ -314,7 +280,7 @@ func TestWorlds(t *testing.T) {
 		}
 		r := made(t, c, programs...)
 		seen, ops := 0, 0
-		for _, who := range script(roll, c, 2500) {
+		for _, who := range guess.Picks(roll, c, 2500) {
 			w.Pick(who)
 			l := w.Since(seen)
 			if n, ok := r.All(l...); n != len(l) || !ok {
@@ -354,14 +320,14 @@ func TestWorlds(t *testing.T) {
 func TestChangedEvents(t *testing.T) {
 	wrong := 0
 	for seed := range uint64(40) {
-		roll := ruled(seed + 2000)
-		c := somehow(roll)
+		roll := guess.By(seed + 2000)
+		c := guess.Config(roll)
 		programs := some(roll, c, 100)
 		w, e := world.New(c, programs...)
 		if e != api.OK {
 			t.Fatal("no world:", e)
 		}
-		w.Run(script(roll, c, 1500)...)
+		w.Run(guess.Picks(roll, c, 1500)...)
 		events := w.Events()
 		for range 20 {
 			if len(events) == 0 {

@@ -4,24 +4,13 @@ import (
 	"testing"
 
 	"dustpan/api"
+	"dustpan/guess"
 	"dustpan/stats"
 	"dustpan/world"
 )
 
-// rule is numbers by a fixed rule: each time one below n.
-type rule func(n int) int
-
-// ruled is the rule of a seed.
-func ruled(seed uint64) rule {
-	x := seed*2862933555777941757 + 1
-	return func(n int) int {
-		x = x*6364136223846793005 + 1442695040888963407
-		return int(x>>33) % n
-	}
-}
-
 // some is as many programs as that, each of n operations by a rule, those that are wrong among them.
-func some(roll rule, many, n int) [][]api.Op {
+func some(roll guess.Rule, many, n int) [][]api.Op {
 	l := make([][]api.Op, many)
 	for m := range l {
 		for range n {
@@ -124,7 +113,7 @@ func looks(t *testing.T, programs [][]api.Op, events []api.Event) {
 // Whatever events there are, of them is told what the chapter says.
 func TestAnyEvents(t *testing.T) {
 	for seed := range uint64(500) {
-		roll := ruled(seed)
+		roll := guess.By(seed)
 		programs := some(roll, roll(4), roll(6))
 		var events []api.Event
 		for range roll(80) {
@@ -141,7 +130,7 @@ func TestAnyEvents(t *testing.T) {
 func TestWorlds(t *testing.T) {
 	var all stats.Sum
 	for seed := range uint64(40) {
-		roll := ruled(seed + 800)
+		roll := guess.By(seed + 800)
 		c := api.Config{Blocks: 1 + roll(3), Words: 16, Muts: 1 + roll(3), Regs: 4, Cells: roll(4), Log: 1 + roll(3), Stack: 1 + roll(5)}
 		programs := some(roll, c.Muts, 150)
 		w, e := world.New(c, programs...)

@@ -5,6 +5,7 @@ import (
 	"strings"
 
 	"dustpan/api"
+	"dustpan/spell"
 )
 
 // kinds are the words of the kinds of events, by these; the one of 0 is no kind's.
@@ -27,7 +28,7 @@ func Event(e api.Event) (string, api.Errno) {
 	if e.Kind < api.Did || e.Kind > api.Freed {
 		return "", api.ErrArg
 	}
-	ahead, behind := told(strconv.Itoa(e.Pick), e.Who), told(kinds[e.Kind], e.Op, int(e.Code), e.Value)
+	ahead, behind := spell.Line(strconv.Itoa(e.Pick), e.Who), spell.Line(kinds[e.Kind], e.Op, int(e.Code), e.Value)
 	return ahead + " " + behind, api.OK
 }
 
@@ -39,8 +40,8 @@ func ParseEvent(s string) (api.Event, api.Errno) {
 		return api.Event{}, api.ErrForm
 	}
 	kind, isKind := byName(words[kindPlace])
-	ahead, areAhead := numbers(words[:kindPlace]...)
-	behind, areBehind := numbers(words[kindPlace+1:]...)
+	ahead, areAhead := spell.Numbers(words[:kindPlace]...)
+	behind, areBehind := spell.Numbers(words[kindPlace+1:]...)
 	if !isKind || !areAhead || !areBehind {
 		return api.Event{}, api.ErrForm
 	}

@@ -9,24 +9,13 @@ import (
 
 	"dustpan/api"
 	"dustpan/config"
+	"dustpan/guess"
 	"dustpan/op"
 	"dustpan/tape"
 )
 
-// rule is numbers by a fixed rule: each time one below n.
-type rule func(n int) int
-
-// ruled is the rule of a seed.
-func ruled(seed uint64) rule {
-	x := seed*2862933555777941757 + 1
-	return func(n int) int {
-		x = x*6364136223846793005 + 1442695040888963407
-		return int(x>>33) % n
-	}
-}
-
 // somehow is a script by a rule, of whose picks a few are none of a world's.
-func somehow(roll rule) tape.Script {
+func somehow(roll guess.Rule) tape.Script {
 	c := api.Config{Blocks: 1 + roll(4), Words: 16 + roll(9), Muts: 1 + roll(4), Regs: 1 + roll(3), Cells: roll(3), Log: 1 + roll(3), Stack: 1 + roll(3)}
 	s := tape.Script{Config: c, Programs: make([][]api.Op, c.Muts)}
 	for m := range s.Programs {
@@ -171,7 +160,7 @@ func (p patterns) looks(t *testing.T, text string) bool {
 func TestAnyScripts(t *testing.T) {
 	p := made()
 	for seed := range uint64(300) {
-		s := somehow(ruled(seed))
+		s := somehow(guess.By(seed))
 		tells(t, s, plainText(s))
 		if !p.looks(t, plainText(s)) {
 			t.Fatal("the patterns don't read what is written:", s)
@@ -185,7 +174,7 @@ func TestAnyLines(t *testing.T) {
 	few := []string{ahead, "mut 0 safe\n", "mut 1 drop 1\n", "mut 2 load 0 0 -1\n", "mut 3 safe\n", full, full, "pick 0\n", "pick -1 7\n", "pick\n", "\n", "mut 1 drop\n", "config 1 16 1 1 0 1 0\n", strings.TrimSuffix(full, "\n") + " 0\n", "pick 1", ahead[:5]}
 	read, refused := 0, 0
 	for seed := range uint64(20000) {
-		roll := ruled(seed)
+		roll := guess.By(seed)
 		text := ""
 		if roll(20) > 0 {
 			text = ahead

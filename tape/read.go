@@ -6,6 +6,7 @@ import (
 	"dustpan/api"
 	"dustpan/config"
 	"dustpan/op"
+	"dustpan/spell"
 )
 
 // configNumbers is how many numbers a config's line has.
@@ -89,15 +90,15 @@ func (r *reader) takeConfig(rest string) bool {
 // takeMut takes an operation of a mutator.
 func (r *reader) takeMut(rest string) bool {
 	word, line, _ := strings.Cut(rest, " ")
-	l, ok := numbers(word)
-	if !ok || l[0] < r.last || l[0] >= r.script.Config.Muts || len(r.script.Picks) > 0 {
+	id, ok := spell.Number(word)
+	if !ok || id < r.last || id >= r.script.Config.Muts || len(r.script.Picks) > 0 {
 		return false
 	}
 	o, code := op.Parse(line)
 	if code != api.OK {
 		return false
 	}
-	r.last = l[0]
+	r.last = id
 	r.script.Programs[r.last] = append(r.script.Programs[r.last], o)
 	return true
 }
@@ -116,5 +117,5 @@ func (r *reader) takePicks(rest string) bool {
 // upTo is the numbers of a text, one at least and most at most, if it has nothing else.
 func upTo(most int, text string) ([]int, bool) {
 	// Of too many words the last one has all that are left, so that it is no number.
-	return numbers(strings.SplitN(text, " ", most)...)
+	return spell.Numbers(strings.SplitN(text, " ", most)...)
 }

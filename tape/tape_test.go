@@ -8,6 +8,7 @@ import (
 	"testing"
 
 	"dustpan/api"
+	"dustpan/guess"
 	"dustpan/op"
 	"dustpan/tape"
 	"dustpan/world"
@@ -302,7 +303,7 @@ func TestRunBounds(t *testing.T) {
 // What is run is told as the world tells it, pick by pick.
 func TestRunIsTheWorlds(t *testing.T) {
 	for seed := range uint64(200) {
-		s := somehow(ruled(seed))
+		s := somehow(guess.By(seed))
 		w, e := world.New(s.Config, s.Programs...)
 		if e != api.OK {
 			t.Fatal("New:", e)

@@ -9,84 +9,20 @@ import (
 	"dustpan/collector"
 	"dustpan/config"
 	"dustpan/graph"
+	"dustpan/guess"
 	"dustpan/mutator"
 	"dustpan/op"
 	"dustpan/trace"
 	"dustpan/world"
 )
 
-// rule is numbers by a fixed rule: each time one below n.
-type rule func(n int) int
-
-// ruled is the rule of a seed.
-func ruled(seed uint64) rule {
-	x := seed*2862933555777941757 + 1
-	return func(n int) int {
-		x = x*6364136223846793005 + 1442695040888963407
-		return int(x>>33) % n
-	}
-}
-
-// somehow is a config by a rule.
-func somehow(roll rule) api.Config {
-	return api.Config{Blocks: 1 + roll(5), Words: 16 + roll(9), Muts: 1 + roll(4), Regs: 1 + roll(4), Cells: roll(4), Log: 1 + roll(3), Stack: 1 + roll(5)}
-}
-
-// some is as many programs as a config has mutators, each of n operations by a rule, those that are wrong among them.
-func some(roll rule, c api.Config, n int) [][]api.Op {
-	size := 1 + roll(4)
-	l := make([][]api.Op, c.Muts)
-	for id := range l {
-		for range n {
-			o := api.Op{Kind: 1 + roll(8), A: roll(c.Regs), B: roll(c.Regs), C: roll(c.Regs)}
-			switch o.Kind {
-			case api.Alloc:
-				if o.B = size; roll(10) == 0 {
-					o.B = roll(17)
-				}
-			case api.Load:
-				o.C = roll(size+1) - roll(2)
-			case api.Store:
-				o.B = roll(size+1) - roll(2)
-			case api.Get:
-				o.B = roll(c.Cells + 1)
-			case api.Set:
-				o.A = roll(c.Cells + 1)
-			}
-			if roll(40) == 0 {
-				o.A, o.B, o.C = roll(20)-2, roll(20)-2, roll(20)-2
-			}
-			l[id] = append(l[id], o)
-		}
-	}
-	return l
-}
-
-// script is n picks by a rule, of each of whom some come in one go.
-func script(roll rule, c api.Config, n int) []int {
-	most, mine := 1+roll(30), 1+roll(60)
-	var l []int
-	for len(l) < n {
-		who := roll(c.Muts + 1)
-		switch {
-		case roll(4) == 0:
-			l = append(l, c.Muts+1)
-		case who == c.Muts:
-			l = append(l, again(who, 1+roll(mine))...)
-		default:
-			l = append(l, again(who, 1+roll(most))...)
-		}
-	}
-	return l
-}
-
 // A world's events are those of its parts, when they are picked by hand.
 func TestAsItsParts(t *testing.T) {
 	for seed := range uint64(60) {
-		roll := ruled(seed)
-		c := somehow(roll)
-		programs := some(roll, c, 100)
-		l := script(roll, c, 2000)
+		roll := guess.By(seed)
+		c := guess.Config(roll)
+		programs := guess.Programs(roll, c, 100)
+		l := guess.Picks(roll, c, 2000)
 		w := made(t, c, programs...)
 		picks(t, w, l...)
 		s, _ := mutator.Share(c)
@@ -147,10 +83,10 @@ func looks(w *world.World) {
 // The same picks have the same events, however they are handed in, whatever is refused between them, and whoever looks.
 func TestSamePicks(t *testing.T) {
 	for seed := range uint64(40) {
-		roll := ruled(seed + 300)
-		c := somehow(roll)
-		programs := some(roll, c, 100)
-		l := script(roll, c, 1500)
+		roll := guess.By(seed + 300)
+		c := guess.Config(roll)
+		programs := guess.Programs(roll, c, 100)
+		l := guess.Picks(roll, c, 1500)
 		once := made(t, c, programs...)
 		picks(t, once, l...)
 		byOne, parts := made(t, c, programs...), made(t, c, programs...)
@@ -192,9 +128,9 @@ type watch struct {
 }
 
 // watched is a watch of a world, whose programs have n operations by a rule.
-func watched(t *testing.T, roll rule, c api.Config, n int) *watch {
+func watched(t *testing.T, roll guess.Rule, c api.Config, n int) *watch {
 	t.Helper()
-	programs := some(roll, c, n)
+	programs := guess.Programs(roll, c, n)
 	g, e := graph.New(c)
 	if e != api.OK {
 		t.Fatal("no graph:", e)
@@ -367,10 +303,10 @@ func (w *watch) few(t *testing.T) {
 func TestScripts(t *testing.T) {
 	told, refused := map[int]int{}, 0
 	for seed := range uint64(120) {
-		roll := ruled(seed + 600)
-		c := somehow(roll)
+		roll := guess.By(seed + 600)
+		c := guess.Config(roll)
 		w := watched(t, roll, c, 400)
-		for _, who := range script(roll, c, 2500) {
+		for _, who := range guess.Picks(roll, c, 2500) {
 			w.does(t, who)
 			w.sound(t)
 			w.asGraph(t)
@@ -386,24 +322,11 @@ func TestScripts(t *testing.T) {
 	}
 }
 
-// row is so many picks of all from 0 on, below who, each of them once at least, mixed by a rule: rows of them are fair by twice as many, less one.
-func row(roll rule, who, n int) []int {
-	l := make([]int, n)
-	for i := range l {
-		if l[i] = i; i >= who {
-			l[i] = roll(who)
-		}
-		other := roll(i + 1)
-		l[i], l[other] = l[other], l[i]
-	}
-	return l
-}
-
 // With picks that are fair by K marking ends, and a cycle, within their bounds.
 func TestFair(t *testing.T) {
 	for seed := range uint64(50) {
-		roll := ruled(seed + 900)
-		c := somehow(roll)
+		roll := guess.By(seed + 900)
+		c := guess.Config(roll)
 		w := watched(t, roll, c, 300)
 		who := c.Muts + 1 + roll(2) // whether wishes are among them, or not
 		n := who + roll(20)
@@ -412,7 +335,7 @@ func TestFair(t *testing.T) {
 			if w.Idle() {
 				picks(t, w.World, c.Muts+1)
 			}
-			for _, one := range row(roll, who, n) {
+			for _, one := range guess.Row(roll, who, n) {
 				e := w.does(t, one)
 				if e.Kind == api.Marked && e.Pick-w.began > config.Marking(c, k) || e.Kind == api.Rested && e.Pick-w.began > config.Cycle(c, k) {
 					t.Fatalf("%v, fair by %d: began at %d, %v", c, k, w.began, e)
@@ -426,10 +349,10 @@ func TestFair(t *testing.T) {
 // Behind programs that have ended, and a cycle, just what is reached is left.
 func TestRest(t *testing.T) {
 	for seed := range uint64(60) {
-		roll := ruled(seed + 1200)
-		c := somehow(roll)
+		roll := guess.By(seed + 1200)
+		c := guess.Config(roll)
 		w := watched(t, roll, c, 60)
-		for _, who := range script(roll, c, 200) {
+		for _, who := range guess.Picks(roll, c, 200) {
 			w.does(t, who)
 		}
 		for !w.Done() || !w.Idle() {
@@ -451,12 +374,12 @@ func TestRest(t *testing.T) {
 
 // Programs of operations that are none, of any numbers, are worlds all the same: each ends with its error.
 func TestWrongOperations(t *testing.T) {
-	roll := ruled(7)
+	roll := guess.By(7)
 	wild := func() int {
 		return []int{-1 << 63, -1, 0, 1, 2, 3, 8, 9, 64, 1 << 40, 1<<63 - 1}[roll(11)]
 	}
 	for range 20 {
-		c := somehow(roll)
+		c := guess.Config(roll)
 		w := watched(t, roll, c, 0)
 		programs := make([][]api.Op, c.Muts)
 		for id := range programs {
@@ -465,7 +388,7 @@ func TestWrongOperations(t *testing.T) {
 			}
 		}
 		w.World, w.programs = made(t, c, programs...), programs
-		for _, who := range script(roll, c, 2000) {
+		for _, who := range guess.Picks(roll, c, 2000) {
 			w.does(t, who)
 			w.sound(t)
 			w.asGraph(t)
